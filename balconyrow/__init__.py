@@ -1,0 +1,1 @@
+"""Balconyrow: a row seen from balconies, and who changes places unseen."""
