@@ -102,5 +102,5 @@ def stray_of(box, row):
         if who not in row or not least <= taller_ahead(row, who) <= greatest:
             return who
     known = folk_in(box)
-    strange = [who for who in row if who not in known]
+    strange = [one for one in row if one not in known]
     return max(strange, default=None)

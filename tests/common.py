@@ -68,6 +68,54 @@ def some_boxes(chance, folk, many):
         yield tuple(box)
 
 
+def walled_boxes(chance, folk, many):
+    """So many boxes by chance with many stretches of one number amid, so that walls stand among walls."""
+    for _ in range(many):
+        box = []
+        for place, who in enumerate(folk):
+            least, greatest = sorted(chance.randrange(place + 1) for _ in range(2))
+            if place > 1 and chance.random() < 0.7:
+                least = greatest = chance.randrange(1, place)
+            box.append((who, least, greatest))
+        yield tuple(box)
+
+
+def walls_by_hand(box, row):
+    """The WALLS as [10] words them, with all numbers of each stretch written out."""
+    return crew_by_hand({who: set(range(least, greatest + 1)) for who, least, greatest in box}, row)
+
+
+def crew_by_hand(numbers, row):
+    crew = sorted(numbers)
+    while crew:
+        least, *rest = crew
+        if len(numbers[least]) == 1 and numbers[least] not in ({0}, {len(rest)}):
+            ahead = [who for who in rest if row.index(who) < row.index(least)]
+            behind = [who for who in rest if who not in ahead]
+            return (least, tuple(ahead), crew_by_hand(stretches_by_hand(numbers, ahead, []), row),
+                    crew_by_hand(stretches_by_hand(numbers, behind, ahead), row))
+        crew = rest
+    return ()
+
+
+def stretches_by_hand(numbers, crew, ahead):
+    """Of each of the crew its numbers, made less by the taller ones among ahead, that it can have in the crew."""
+    told = {}
+    for who in crew:
+        less = sum(other > who for other in ahead)
+        most = sum(other > who for other in crew)
+        told[who] = {number - less for number in numbers[who] if 0 <= number - less <= most}
+    return told
+
+
+def walls_within(walls):
+    """Each wall with those ahead of it, from the first on, then left, then right."""
+    if not walls:
+        return []
+    who, ahead, left, right = walls
+    return [(who, ahead), *walls_within(left), *walls_within(right)]
+
+
 def swapped(row, place):
     return row[:place] + (row[place + 1], row[place]) + row[place + 2:]
 

@@ -51,8 +51,8 @@ class IsHouses(unittest.TestCase):
             self.assertIs(is_houses(by_turns(houses, False)), False, houses)
 
     def test_floors_that_stand_still_or_fall_or_lie_below_1(self):
-        for floors in ((0,), (-1,), (-5,), (0, 1), (-1, 1, 2), (1, 1), (2, 1), (1, 2, 2), (1, 3, 2), (4, 4, 5), (3, 2, 1),
-                       (1, 2, 0), (1, -2), (99, 98)):
+        for floors in ((0,), (-1,), (-5,), (0, 1), (-1, 1, 2), (1, 1), (2, 1), (1, 2, 2), (1, 3, 2), (4, 4, 5),
+                       (3, 2, 1), (1, 2, 0), (1, -2), (99, 98)):
             for houses in ((floors, ()), ((), floors), (floors, (1,)), ((2, 3), floors), (floors, floors)):
                 self.assertIs(is_houses(houses), False, houses)
 

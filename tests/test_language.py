@@ -122,6 +122,15 @@ class Modules(unittest.TestCase):
             imports = {name: imports[name] for name in imports if name not in free}
 
 
+    def test_no_name_in_a_function_is_that_of_an_import(self):
+        for name, tree in trees():
+            imported = {
+                alias.asname or alias.name for node in tree.body if isinstance(node, ast.ImportFrom)
+                for alias in node.names}
+            for function in [node for node in ast.walk(tree) if isinstance(node, ast.FunctionDef)]:
+                self.assertEqual(set(bound_names(function)) & imported, set(), (name, function.name))
+
+
 class Code(unittest.TestCase):
     def test_no_statement_or_sign_that_is_left_out(self):
         for name, tree in trees():
