@@ -1,7 +1,7 @@
 """Houses at both ends of a row, and what their floors see."""
 
 from balconyrow.kinds import are_numbers
-from balconyrow.rows import code_of, exchanged, folk_of, taller_ahead, taller_behind, turned
+from balconyrow.rows import code_of, exchanged, folk_of, taller_ahead, taller_among, taller_behind, turned
 
 SIDES = ("left", "right")
 
@@ -49,6 +49,18 @@ def seen_from_left(row, floors):
     """For each floor at the left end the rising tuple of those it sees."""
     rising = list(zip(folk_of(row), code_of(row)))[::-1]
     return tuple([tuple([who for who, taller in rising if taller < floor]) for floor in floors])
+
+
+def tellers(row, place):
+    """The left floor and the right one, there or not, that see others when those at place and place + 1 are exchanged.
+
+    There must be two such.
+    """
+    lesser = min(row[place], row[place + 1])
+    # Between the two rows it has one more or one fewer ahead, so just one floor of either side tells them apart.
+    ahead = taller_among(row[:place], lesser)
+    behind = taller_among(row[place + 2:], lesser)
+    return (ahead + 1, behind + 1)
 
 
 def floors_above(floors, taller):

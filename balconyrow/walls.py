@@ -22,8 +22,7 @@ def shows_kept(box, row, thing):
 def lot_box(box, row):
     """The BOX of all rows to which the row is led, itself too; refused with Outside."""
     refuse_outside(box, row)
-    lot = [(who, least + less, greatest + less) for who, least, greatest, less in settled(whole_crew(box), row)]
-    return tuple(sorted(lot, reverse=True))
+    return box_settled(settled(whole_crew(box), row))
 
 
 def walls_within(crew, row):
@@ -43,6 +42,12 @@ def settled(crew, row):
         return crew
     ahead, behind = crews_round(rest, row)
     return crew[len(rest) - 1:] + settled(ahead, row) + settled(behind, row)
+
+
+def box_settled(members):
+    """The BOX of members told in no order, with all by which their numbers were made less put on again."""
+    stretches = [(who, least + less, greatest + less) for who, least, greatest, less in members]
+    return tuple(sorted(stretches, reverse=True))
 
 
 def whole_crew(box):
@@ -69,11 +74,22 @@ def crews_round(rest, row):
     """The crews ahead of the wall and behind it, which is the last of the rest."""
     ahead, behind = [], []
     before = row[:row.index(rest[-1][0])]
-    # From the tallest on, so whoever is in either crew by then is taller.
-    for who, least, greatest, less in rest[:-1]:
-        over = len(ahead)
-        if who in before:
-            ahead.append((who, least, min(greatest, over), less))
+    for member in rest[:-1]:
+        if member[0] in before:
+            ahead.append(as_ahead(member, ahead))
         else:
-            behind.append((who, max(least - over, 0), min(greatest - over, len(behind)), less + over))
+            behind.append(as_behind(member, ahead, behind))
     return ahead, behind
+
+
+def as_ahead(member, ahead):
+    """The next shorter one as it is in the crew ahead, of which all who are there by then are taller."""
+    who, least, greatest, less = member
+    return (who, least, min(greatest, len(ahead)), less)
+
+
+def as_behind(member, ahead, behind):
+    """The next shorter one as it is in the crew behind; all who are in either crew by then are taller."""
+    who, least, greatest, less = member
+    over = len(ahead)
+    return (who, max(least - over, 0), min(greatest - over, len(behind)), less + over)

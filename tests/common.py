@@ -172,6 +172,17 @@ def lists_within(thing):
             yield from lists_within(part)
 
 
+def names_placed(ask):
+    """The arguments of a function that may be handed in by their places."""
+    return list(ask.__code__.co_varnames[:ask.__code__.co_argcount])
+
+
+def names_alone(ask):
+    """The arguments of a function that stand behind a bare *."""
+    many = ask.__code__.co_argcount
+    return list(ask.__code__.co_varnames[many:many + ask.__code__.co_kwonlyargcount])
+
+
 class Asking(unittest.TestCase):
     """Asks as [2] says: by places and by names, of tuples and of lists, and again."""
 
@@ -181,9 +192,12 @@ class Asking(unittest.TestCase):
             yield {name: value if name == "thing" else shape(value) for name, value in handed.items()}
 
     def ways(self, ask, given):
+        """By places, by names, by names the other way about, and by both; what stands behind a bare * by name alone."""
+        alone = {name: given[name] for name in names_alone(ask)}
+        placed = {name: value for name, value in given.items() if name not in alone}
         turned = dict(reversed(list(given.items())))
-        first, *rest = given
-        yield lambda: ask(*given.values())
+        first, *rest = [*placed, *alone]
+        yield lambda: ask(*placed.values(), **alone)
         yield lambda: ask(**given)
         yield lambda: ask(**turned)
         yield lambda: ask(given[first], **{name: given[name] for name in reversed(rest)})
@@ -222,5 +236,12 @@ class Asking(unittest.TestCase):
         for name, arguments in wanted.items():
             ask = getattr(module, name)
             self.assertEqual(ask.__module__, module.__name__)
-            self.assertEqual(ask.__code__.co_varnames[:ask.__code__.co_argcount], tuple(arguments.split()))
-            self.assertEqual((ask.__code__.co_kwonlyargcount, ask.__defaults__), (0, None))
+            placed, _, alone = [part.split() for part in arguments.partition("*")]
+            self.assertEqual(names_placed(ask), placed)
+            self.assertEqual(names_alone(ask), alone)
+            self.assertEqual((ask.__defaults__, ask.__kwdefaults__), (None, None))
+            for lacking in alone:
+                with self.assertRaises(TypeError):
+                    ask(*[0] * len(placed + alone))
+                with self.assertRaises(TypeError):
+                    ask(*[0] * len(placed), **{other: 0 for other in alone if other != lacking})
