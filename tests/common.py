@@ -31,6 +31,16 @@ def ahead_by_hand(row):
     return ahead
 
 
+def seen_by_hand(row, houses):
+    """For each floor of either side whom it sees, by looking at all in front."""
+    told = []
+    for order, floors in zip((row, row[::-1]), houses):
+        told.append(tuple(
+            frozenset(who for at, who in enumerate(order) if sum(one > who for one in order[:at]) < floor)
+            for floor in floors))
+    return tuple(told)
+
+
 def code_by_hand(row):
     ahead = ahead_by_hand(row)
     return [ahead[who] for who in sorted(row, reverse=True)]

@@ -12,7 +12,7 @@ from balconyrow.boxes import how_many
 from balconyrow.counts import known_rows, most_rows, rows_seeing, views_many
 from balconyrow.houses import views
 from balconyrow.seen import box_seen
-from tests.common import Asking
+from tests.common import Asking, seen_by_hand
 
 FULL = tuple(range(1, 100))
 
@@ -20,16 +20,6 @@ HOUSES = (
     ((), ()), ((1,), ()), ((), (1,)), ((1,), (1,)), ((2,), ()), ((), (3,)), ((2,), (2,)), ((1, 2), (1,)),
     ((1, 3), (2,)), ((2, 4), (1, 3)), ((1, 2, 3), (1, 2, 3)), ((3,), (3,)), ((5,), (1,)), ((6,), (7,)),
     ((99,), (98, 99)), ((1, 99), ()), (FULL, ()), ((), FULL), (FULL, FULL))
-
-
-def seen_by_hand(row, houses):
-    """For each floor of either side whom it sees, by looking at all in front."""
-    told = []
-    for order, floors in zip((row, row[::-1]), houses):
-        told.append(tuple(
-            frozenset(who for at, who in enumerate(order) if sum(one > who for one in order[:at]) < floor)
-            for floor in floors))
-    return tuple(told)
 
 
 def rows_by_views(many, houses):

@@ -168,6 +168,39 @@ class Code(unittest.TestCase):
                 if isinstance(node, ast.Call) and isinstance(node.func, ast.Attribute):
                     self.assertIn(node.func.attr, own | METHODS_OF_VALUES, (name, node.lineno))
 
+    def test_no_generator_expressions(self):
+        """As Gallery has an __eq__, most builtins take a list; the package does so everywhere."""
+        for name, tree in trees():
+            for node in ast.walk(tree):
+                self.assertNotIsInstance(node, (ast.GeneratorExp, ast.Yield, ast.YieldFrom), name)
+
+    def test_a_finally_only_notes(self):
+        for name, tree in trees():
+            for node in ast.walk(tree):
+                if isinstance(node, ast.Try) and node.finalbody:
+                    self.assertEqual(len(node.finalbody), 1, (name, node.lineno))
+                    self.assertRegex(
+                        ast.unparse(node.finalbody[0]), r"^self\.notes\.append\(\('out', '[a-z]+'\)\)$", name)
+
+    def test_own_errors_alone_are_caught(self):
+        for name, tree in trees():
+            for node in ast.walk(tree):
+                if isinstance(node, ast.ExceptHandler):
+                    caught = node.type.elts if isinstance(node.type, ast.Tuple) else [node.type]
+                    for one in caught:
+                        self.assertNotIn(one.id, dir(builtins), (name, node.lineno))
+
+    def test_no_name_is_a_method_and_an_attribute(self):
+        methods, attributes = set(), set()
+        for _, tree in trees():
+            for node in ast.walk(tree):
+                if isinstance(node, ast.ClassDef):
+                    methods |= {part.name for part in node.body if isinstance(part, ast.FunctionDef)}
+                if isinstance(node, ast.Attribute) and isinstance(node.ctx, ast.Store):
+                    attributes.add(node.attr)
+        self.assertEqual(methods & attributes, set())
+        self.assertEqual((methods | attributes) & (METHODS_OF_VALUES | NAMES_NOWHERE), set())
+
     def test_is_stands_with_none_true_and_false(self):
         for name, tree in trees():
             for node in ast.walk(tree):

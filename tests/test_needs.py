@@ -11,8 +11,7 @@ from balconyrow.houses import is_houses, told_by
 from balconyrow.needs import (
     apart, fewest, floors_for, needs_to_know, needs_to_watch, shows_apart, shows_floors, unmet)
 from balconyrow.seen import box_seen
-from tests.common import MANY, THINGS, Asking, as_lists, as_tuples, by_turns
-from tests.test_counts import seen_by_hand
+from tests.common import MANY, THINGS, Asking, as_lists, as_tuples, by_turns, seen_by_hand
 
 NEEDS = (
     [], [(1, 1)], [(1, 1), (1, 1)], [(1, 1), (1, 2)], [(1, 1), (2, 1)], [(1, 2), (2, 1)], [(2, 2), (1, 1), (2, 2)],
