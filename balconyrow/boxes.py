@@ -3,7 +3,7 @@
 from balconyrow.errors import NoRow, Outside, TooMany, Unlike
 from balconyrow.kinds import are_numbers
 from balconyrow.limits import MOST_ROWS
-from balconyrow.rows import code_of, folk_of, row_of, taller_ahead
+from balconyrow.rows import all_taller_ahead, code_of, folk_of, row_of
 
 
 def is_box(thing):
@@ -98,9 +98,12 @@ def refuse_outside(box, row):
 
 def stray_of(box, row):
     """The one on whose account the row is not in the box; None where it is."""
+    ahead = all_taller_ahead(row)
     for who, least, greatest in box:
-        if who not in row or not least <= taller_ahead(row, who) <= greatest:
+        if who not in ahead or not least <= ahead[who] <= greatest:
             return who
+    # All of the box are in the row, so others are there just where it has more.
+    if len(row) == len(box):
+        return None
     known = folk_in(box)
-    strange = [one for one in row if one not in known]
-    return max(strange, default=None)
+    return max([one for one in row if one not in known])

@@ -1,7 +1,7 @@
 """Houses at both ends of a row, and what their floors see."""
 
 from balconyrow.kinds import are_numbers
-from balconyrow.rows import code_of, exchanged, folk_of, taller_ahead, taller_among, taller_behind, turned
+from balconyrow.rows import all_taller_ahead, folk_of, refuse_no_pair, taller_ahead, taller_among, taller_behind, turned
 
 SIDES = ("left", "right")
 
@@ -24,12 +24,8 @@ def seen_by(row, houses, who):
 
 def told_by(row, houses, place):
     """The floors that see others when those at place and place + 1 are exchanged; refused with NoPlace."""
-    before = seen_by_all(row, houses)
-    after = seen_by_all(exchanged(row, place), houses)
-    told = []
-    for side, floors, old, new in zip(SIDES, houses, before, after):
-        told.extend([(side, floor) for floor, one, other in zip(floors, old, new) if one != other])
-    return told
+    refuse_no_pair(row, place)
+    return [(side, floor) for side, floors, floor in zip(SIDES, houses, tellers(row, place)) if floor in floors]
 
 
 def are_floors(thing):
@@ -47,8 +43,9 @@ def seen_by_all(row, houses):
 
 def seen_from_left(row, floors):
     """For each floor at the left end the rising tuple of those it sees."""
-    rising = list(zip(folk_of(row), code_of(row)))[::-1]
-    return tuple([tuple([who for who, taller in rising if taller < floor]) for floor in floors])
+    ahead = all_taller_ahead(row)
+    rising = folk_of(row)[::-1]
+    return tuple([tuple([who for who in rising if ahead[who] < floor]) for floor in floors])
 
 
 def tellers(row, place):

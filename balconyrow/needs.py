@@ -19,12 +19,13 @@ def needs_to_know(row):
             needs.append((ahead + 1, behind))
         if ahead > 0:
             needs.append((ahead, behind + 1))
-    return sorted(set(needs))
+    # None stands there twice: its numbers add up to one more than the taller ones whom who has on both sides.
+    return sorted(needs)
 
 
 def needs_to_watch(row):
     """The rising list of NEEDS that just the HOUSES meet by which no two neighbours can change places unseen."""
-    return sorted({tellers(row, place) for place in range(len(row) - 1)})
+    return sorted([tellers(row, place) for place in range(len(row) - 1)])
 
 
 def unmet(needs, houses):

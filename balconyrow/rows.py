@@ -35,7 +35,8 @@ def taller_behind(row, who):
 
 def code_of(row):
     """How many taller ones each has ahead, from the tallest one on."""
-    return tuple([taller_ahead(row, who) for who in folk_of(row)])
+    ahead = all_taller_ahead(row)
+    return tuple([ahead[who] for who in folk_of(row)])
 
 
 def row_of(folk, code):
@@ -55,8 +56,7 @@ def turned(row):
 
 def exchanged(row, place):
     """The ROW with those at place and place + 1 exchanged; refused with NoPlace."""
-    if not 0 <= place < len(row) - 1:
-        raise NoPlace(place)
+    refuse_no_pair(row, place)
     heights = list(row)
     heights[place], heights[place + 1] = heights[place + 1], heights[place]
     return tuple(heights)
@@ -72,6 +72,30 @@ def place_of(row, who):
     if who not in row:
         raise NoOne(who)
     return row.index(who)
+
+
+def refuse_no_pair(row, place):
+    """Refused with NoPlace where there aren't two, at place and place + 1."""
+    if not 0 <= place < len(row) - 1:
+        raise NoPlace(place)
+
+
+def all_taller_ahead(row):
+    """For each one of the row how many taller ones it has ahead."""
+    ahead = {}
+    falling = []
+    for who in row:
+        # Where it belongs among those ahead, the tallest of them first, is how many of them are taller.
+        low, high = 0, len(falling)
+        while low < high:
+            middle = (low + high) // 2
+            if falling[middle] > who:
+                low = middle + 1
+            else:
+                high = middle
+        falling.insert(low, who)
+        ahead[who] = low
+    return ahead
 
 
 def taller_among(folk, who):

@@ -5,12 +5,13 @@ import random
 import unittest
 
 from balconyrow import wander as module
-from balconyrow.boxes import number_of, whole_box
+from balconyrow.boxes import is_in, number_of, whole_box
 from balconyrow.errors import Held, NoPlace, Outside
 from balconyrow.houses import told_by
+from balconyrow.rows import exchanged
 from balconyrow.seen import box_seen
 from balconyrow.wander import changed, changed_all, may_change
-from tests.common import MANY, Asking, all_boxes, in_by_hand, rows_by_hand, some_boxes, swapped
+from tests.common import MANY, Asking, all_boxes, in_by_hand, rows_by_hand, seen_by_hand, some_boxes, swapped
 
 FOLK = (9, 4, 1, 0, -2)
 
@@ -158,6 +159,43 @@ class Unseen(unittest.TestCase):
             for row in itertools.permutations(FOLK):
                 unseen = [place for place in range(4) if told_by(row, houses, place) == []]
                 self.assertEqual(may_change(box_seen(row, houses), row), unseen, (row, houses))
+
+
+class AlongAWay(unittest.TestCase):
+    """Ways of unseen exchanges: at each row of them, told_by, may_change, is_in and changed say the same."""
+
+    def go_along(self, chance, row, houses):
+        box, seen = box_seen(row, houses), seen_by_hand(row, houses)
+        for _ in range(30):
+            quiet = may_change(box, row)
+            for place in range(len(row) - 1):
+                other = exchanged(row, place)
+                self.assertIs(is_in(box, other), place in quiet)
+                self.assertEqual(told_by(row, houses, place) == [], place in quiet)
+            if not quiet:
+                return
+            place = chance.choice(quiet)
+            after = changed(box, row, place)
+            self.assertEqual(changed(box, after, place), row)
+            row = after
+        self.assertEqual(seen_by_hand(row, houses), seen)
+
+    def test_up_to_16_folk_with_up_to_8_floors(self):
+        chance = random.Random(16)
+        for _ in range(60):
+            row = tuple(chance.sample(range(100), chance.randint(2, 16)))
+            houses = tuple(tuple(sorted(chance.sample(range(1, 17), chance.randint(0, 8)))) for _ in range(2))
+            self.go_along(chance, row, houses)
+
+    def test_16_folk_with_8_floors_on_both_sides(self):
+        row = (3, 14, 1, 15, 9, 2, 6, 5, 16, 8, 7, 4, 12, 10, 11, 13)
+        houses = (tuple(range(1, 9)),) * 2
+        for place in range(15):
+            before, after = seen_by_hand(row, houses), seen_by_hand(swapped(row, place), houses)
+            wanted = [(side, floor) for side, old, new in zip(("left", "right"), before, after)
+                      for floor, one, other in zip(range(1, 9), old, new) if one != other]
+            self.assertEqual(told_by(row, houses, place), wanted)
+        self.go_along(random.Random(17), row, houses)
 
 
 class Interface(Asking):
